@@ -1,0 +1,1 @@
+"""Clauses from which plain following finds all."""

@@ -1,0 +1,89 @@
+"""What several tests use: objects of all kinds, and slow but plain ways to find what the document says."""
+
+import itertools
+import random
+
+from lastopen.codes import Code
+from lastopen.errors import BadNames
+from lastopen.rules import Rule
+
+SIX = ["a", "b", "c", "d", "e", "f"]
+SEVEN = [*SIX, "g"]
+
+
+def anything():
+    """Objects of all kinds, none of which is a name, a literal, or a list of such (but for empty lists)."""
+    nested = []
+    nested.append(nested)
+    return [0, 1, -1, 10 ** 5000, True, False, None, "", "-", "A", "a b", "a1", "--x", " x", "x\n", "\u00e4", "\u00df",
+            "abcdefghi", "-abcdefghi", [0], [None], [[]], [["a"]], (1,), ((),), nested, {}, {"a": 1}, {1: "a"},
+            Rule(["a"], [["a"]]), Rule([], []), Code(["a"], [["a"]]), Code([], []), BadNames(0), Rule, len]
+
+
+def no_lists():
+    """Those of these objects that are no lists."""
+    return [thing for thing in anything() if not isinstance(thing, (list, tuple))] + ["a", "ab", "-a"]
+
+
+def opposite(literal):
+    return literal[1:] if literal[0] == "-" else "-" + literal
+
+
+def all_full(names):
+    """All full settings in order."""
+    return list(itertools.product(*[(name, "-" + name) for name in names]))
+
+
+def all_partial(names):
+    """All lists of ascending literals of unlike names, ordered."""
+    place = {}
+    for name in names:
+        place[name] = len(place)
+        place["-" + name] = len(place)
+    choices = itertools.product(*[("", name, "-" + name) for name in names])
+    rows = [tuple(literal for literal in choice if literal) for choice in choices]
+    return sorted(rows, key=lambda row: (len(row), [place[literal] for literal in row]))
+
+
+def fits(row, clauses):
+    return all(any(literal in row for literal in clause) for clause in clauses)
+
+
+def plain_shortest(names, settings):
+    """The shortest consequences, by trying all clauses and all of their parts."""
+    holding = [clause for clause in all_partial(names) if fits_all(settings, clause)]
+    return [clause for clause in holding if not any(set(part) < set(clause) for part in holding)]
+
+
+def fits_all(settings, clause):
+    return all(any(literal in row for literal in clause) for row in settings)
+
+
+def plain_rule(signs, clauses, helpers):
+    """The allowed settings, by trying all settings of the helpers."""
+    return [row for row in all_full(signs) if any(fits(row + rest, clauses) for rest in all_full(helpers))]
+
+
+def shuffled(rnd, things):
+    things = list(things)
+    rnd.shuffle(things)
+    return things
+
+
+def some_rule(rnd, names):
+    """A random rule of these names."""
+    part = rnd.choice([0, 0.1, 0.3, 0.5, 0.7, 0.9, 1])
+    return Rule(names, [shuffled(rnd, row) for row in all_full(names) if rnd.random() < part])
+
+
+def some_clauses(rnd, names, most):
+    """Random clauses of these names."""
+    rows = []
+    for _ in range(rnd.randint(0, most)):
+        size = min(len(names), rnd.choice([1, 2, 2, 2, 3, 3, 3, 4]))
+        rows.append([rnd.choice(["", "-"]) + name for name in rnd.sample(names, size)])
+    return rows
+
+
+def seeded(number):
+    return random.Random(number)
