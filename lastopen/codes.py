@@ -48,7 +48,7 @@ class Code:
 
     def less(self, index):
         """The code without the clause with this index."""
-        if not isinstance(index, int) or isinstance(index, bool) or not 0 <= index < len(self.rows):
+        if not is_index(self, index):
             raise NoClause(index)
         rest = list(self.rows)
         del rest[index]
@@ -95,10 +95,19 @@ def have_same_names(one, other):
 def rule_of(code, names):
     """The rule of the first names of a code: allowed is what goes with some setting of the others."""
     check_count(names)
-    clauses = [[code.places[literal] for literal in clause] for clause in code.rows]
-    search = Search(len(code.places) // 2, clauses)
+    search = Search(len(code.places) // 2, numbered(code))
     rows = []
     for row in full_settings(names):
         if search.filled([code.places[literal] for literal in row]) is not None:
             rows.append(row)
     return Rule(names, rows)
+
+
+def numbered(code):
+    """The clauses of a code, as lists of the places of their literals."""
+    return [[code.places[literal] for literal in clause] for clause in code.rows]
+
+
+def is_index(code, thing):
+    """Tells of any object whether it is the index of a clause; truth values are none."""
+    return isinstance(thing, int) and not isinstance(thing, bool) and 0 <= thing < len(code.rows)

@@ -33,9 +33,9 @@ def opposite(literal):
     return "-" + literal
 
 
-def check_names(things):
-    """Raises BadNames for the first thing that is no name or stood before."""
-    seen = {}
+def check_names(things, taken=()):
+    """Raises BadNames for the first thing that is no name, is taken or stood before."""
+    seen = {name: True for name in taken}
     for index, thing in enumerate(things):
         if not is_name(thing) or thing in seen:
             raise BadNames(index)
@@ -105,4 +105,12 @@ def full_settings(names):
     rows = [()]
     for name in names:
         rows = [(*row, literal) for row in rows for literal in (name, "-" + name)]
+    return rows
+
+
+def half_filled(names):
+    """All half-filled settings of the names, as tuples of ascending literals; those that begin alike are together."""
+    rows = [()]
+    for name in names:
+        rows = [(*row, *added) for row in rows for added in ((), (name,), ("-" + name,))]
     return rows

@@ -85,5 +85,65 @@ def some_clauses(rnd, names, most):
     return rows
 
 
+def some_code(rnd, most_signs=4, most_helpers=4, most_clauses=12):
+    """A random code."""
+    names = shuffled(rnd, [*SIX, "g", "h"])
+    signs = names[:rnd.randint(0, most_signs)]
+    helpers = names[len(signs):len(signs) + rnd.randint(0, most_helpers)]
+    return Code(signs, some_clauses(rnd, signs + helpers, most_clauses), helpers)
+
+
+def some_partial(rnd, names):
+    """A random half-filled setting of these names."""
+    return [rnd.choice(["", "-"]) + name for name in rnd.sample(names, rnd.randint(0, len(names)))]
+
+
+def plain_closure(clauses, setting):
+    """All literals that are so in the end of following, or None at a dead end; clause by clause, again and again."""
+    so = set(setting)
+    while True:
+        before = len(so)
+        for clause in clauses:
+            left = [literal for literal in clause if opposite(literal) not in so]
+            if not left:
+                return None
+            if len(left) == 1:
+                so.add(left[0])
+        if len(so) == before:
+            return so
+
+
+def plain_follow(names, clauses, setting):
+    """The literals that come to be drawn, ascending."""
+    so = plain_closure(clauses, setting)
+    if so is None:
+        return None
+    return [literal for name in names for literal in (name, "-" + name) if literal in so and literal not in setting]
+
+
+def plain_forced(settings, names, given):
+    """The further literals that all of the settings with the given ones have."""
+    having = [row for row in settings if set(given) <= set(row)]
+    if not having:
+        return None
+    return [literal for name in names for literal in (name, "-" + name)
+            if literal not in given and all(literal in row for row in having)]
+
+
+def plain_blinds(code, level):
+    """All blind settings, in order, each with the first literal that is not drawn there, or None."""
+    names = code.signs() + (code.helpers() if level == "all" else [])
+    settings = plain_rule(names, code.clauses(), [] if level == "all" else code.helpers())
+    found = []
+    for setting in all_partial(names):
+        so = plain_closure(code.clauses(), setting)
+        forced = plain_forced(settings, names, setting)
+        if so is not None and forced is None:
+            found.append((setting, None))
+        elif so is not None and level != "dead" and not set(forced) <= so:
+            found.append((setting, [literal for literal in forced if literal not in so][0]))
+    return found
+
+
 def seeded(number):
     return random.Random(number)

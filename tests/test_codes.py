@@ -6,14 +6,7 @@ from lastopen.codes import Code
 from lastopen.errors import BadClause, BadNames, Clash, NoClause, TooMany
 from lastopen.rules import Rule
 from tests.helping import (SEVEN, SIX, all_full, anything, fits, no_lists, plain_rule, seeded, shuffled,
-                           some_clauses)
-
-
-def some_code(rnd, most_signs=4, most_helpers=4, most_clauses=12):
-    names = shuffled(rnd, [*SIX, "g", "h"])
-    signs = names[:rnd.randint(0, most_signs)]
-    helpers = names[len(signs):len(signs) + rnd.randint(0, most_helpers)]
-    return Code(signs, some_clauses(rnd, signs + helpers, most_clauses), helpers)
+                           some_clauses, some_code)
 
 
 class Codes(unittest.TestCase):

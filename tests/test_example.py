@@ -3,8 +3,12 @@
 import inspect
 import unittest
 
+from lastopen import following, seeing, ways
 from lastopen.codes import Code
+from lastopen.following import follow
 from lastopen.rules import Rule
+from lastopen.seeing import blind, blind_count, sees
+from lastopen.ways import direct, rows, whole
 
 
 class Example(unittest.TestCase):
@@ -19,12 +23,35 @@ class Example(unittest.TestCase):
     def test_code(self):
         code = Code(["a", "b"], [["a", "h"], ["a", "-h"], ["-a", "b"]], helpers=["h"])
         self.assertEqual(code.rule().settings(), [("a", "b")])
+        self.assertEqual([follow(code, []), follow(code, ["a"]), follow(code, ["-b"])], [[], ["b"], None])
+        self.assertEqual([blind(code), sees(code, "dead"), blind_count(code)], [((), "a"), True, 2])
+
+    def test_ways(self):
+        even = Rule(["a", "b"], [["a", "b"], ["-a", "-b"]])
+        self.assertEqual(rows(even, ["x", "y"]).clauses()[:5],
+                         [("a", "-x"), ("b", "-x"), ("-a", "-y"), ("-b", "-y"), ("-a", "x")])
+        self.assertEqual(direct(Rule(["a"], [["a"]]) | Rule(["b"], [["b"]])).clauses(), [("a", "b")])
+        other = whole(Rule(["b", "c"], [["b", "-c"], ["-b", "c"]]))
+        self.assertEqual(follow(whole(even) + other, ["c"]), ["-a", "-b"])
 
 
 class Interface(unittest.TestCase):
 
     def parameters(self, kind, name):
         return [str(told) for told in inspect.signature(vars(kind)[name]).parameters.values()][1:]
+
+    def check_functions(self, module, functions):
+        for name, told in functions.items():
+            function = vars(module)[name]
+            self.assertEqual(function.__module__, module.__name__)
+            self.assertEqual([str(parameter) for parameter in inspect.signature(function).parameters.values()], told)
+
+    def test_functions(self):
+        self.check_functions(ways, {"direct": ["rule"], "whole": ["rule"], "rows": ["rule", "helpers"]})
+        self.check_functions(following, {"follow": ["code", "setting"], "drawings": ["code", "setting"],
+                                         "are_drawings": ["code", "setting", "thing"]})
+        level = "level='forced'"
+        self.check_functions(seeing, {"blind": ["code", level], "sees": ["code", level], "blind_count": ["code", level]})
 
     def test_rule(self):
         self.assertEqual(Rule.__module__, "lastopen.rules")
