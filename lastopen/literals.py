@@ -35,7 +35,9 @@ def opposite(literal):
 
 def check_names(things, taken=()):
     """Raises BadNames for the first thing that is no name, is taken or stood before."""
-    seen = {name: True for name in taken}
+    seen = {}
+    for name in taken:
+        seen[name] = True
     for index, thing in enumerate(things):
         if not is_name(thing) or thing in seen:
             raise BadNames(index)

@@ -1,6 +1,5 @@
 """Seeing: whether following finds what all clauses together tell, at all half-filled settings."""
 
-from lastopen.codes import rule_of
 from lastopen.errors import BadLevel
 from lastopen.following import places_in, trail_of
 from lastopen.literals import half_filled, opposite

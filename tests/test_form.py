@@ -68,6 +68,13 @@ class Form(unittest.TestCase):
                     own = bound(PACKAGE / (file + ".py"))
                     self.assertTrue(all(alias.name in own and alias.asname is None for alias in node.names))
 
+    def test_all_imports_are_used(self):
+        for path in FILES:
+            used = {node.id for node in nodes(path) if isinstance(node, ast.Name)}
+            for node in nodes(path):
+                if isinstance(node, ast.ImportFrom):
+                    self.assertLessEqual({alias.name for alias in node.names}, used, path.name)
+
     def test_names(self):
         barred = {"register", "mro", "elements", "open", "input", "law", "version_info", *dir(builtins)}
         for path in FILES:
