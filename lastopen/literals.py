@@ -116,3 +116,22 @@ def half_filled(names):
     for name in names:
         rows = [(*row, *added) for row in rows for added in ((), (name,), ("-" + name,))]
     return rows
+
+
+def half_filled_in_order(names):
+    """All half-filled settings of the names, as tuples of ascending literals, in the order of lists."""
+    literals = literals_of(names)
+    places = places_of(names)
+    rows = []
+    parts = [()]
+    while parts:
+        rows.extend(parts)
+        parts = [(*row, literal) for row in parts for literal in literals_behind(literals, places, row)]
+    return rows
+
+
+def literals_behind(literals, places, row):
+    """The literals of the names behind those of an ascending row."""
+    if not row:
+        return literals
+    return literals[(places[row[-1]] // 2 + 1) * 2:]

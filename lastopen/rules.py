@@ -2,7 +2,7 @@
 
 from lastopen.errors import BadSetting, NoSign
 from lastopen.literals import (check_count, check_names, check_setting, full_settings, in_order, is_full,
-                               joined_names, literals_of, name_of, opposite, places_of)
+                               joined_names, literals_behind, literals_of, name_of, opposite, places_of)
 
 
 class Rule:
@@ -141,10 +141,3 @@ def is_shortest(marks, clause, rows):
     """Tells of a consequence whether none of its proper parts is one: those without one literal tell it."""
     shorter = [[literal for literal in clause if literal != left] for left in clause]
     return not any([is_consequence(marks, part, rows) for part in shorter])
-
-
-def literals_behind(literals, places, clause):
-    """The literals of the names behind those of an ascending clause."""
-    if not clause:
-        return literals
-    return literals[(places[clause[-1]] // 2 + 1) * 2:]

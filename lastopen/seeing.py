@@ -1,8 +1,9 @@
 """Seeing: whether following finds what all clauses together tell, at all half-filled settings."""
 
+from lastopen.codes import rule_of
 from lastopen.errors import BadLevel
 from lastopen.following import places_in, trail_of
-from lastopen.literals import half_filled, opposite
+from lastopen.literals import check_count, half_filled, opposite
 
 LEVELS = ("dead", "forced", "all")
 # more than the literals of as many signs as can be looked at
@@ -11,13 +12,7 @@ BASE = 16
 
 def blind(code, level="forced"):
     """The first blind setting and the first literal that is not drawn there; None if no setting is blind."""
-    rule = level_rule(code, level)
-    trail = trail_of(code)
-    for setting in telling_settings(code, rule, level):
-        missed = missed_at(code, trail, rule, level, setting)
-        if missed:
-            return (setting, missed[0])
-    return None
+    return first_blind(code, level_rule(code, level), level)
 
 
 def sees(code, level="forced"):
@@ -32,13 +27,30 @@ def blind_count(code, level="forced"):
     return len([row for row in half_filled(rule.names) if missed_at(code, trail, rule, level, row)])
 
 
-def level_rule(code, level):
-    """The rule of signs that are looked at in this level."""
+def level_names(code, level):
+    """The names that are looked at in this level."""
     if level not in LEVELS:
         raise BadLevel(level)
+    names = code.own_signs
     if level == "all":
-        return code.total()
-    return code.rule()
+        names = (*code.own_signs, *code.own_helpers)
+    check_count(names)
+    return names
+
+
+def level_rule(code, level):
+    """The rule that is looked at in this level."""
+    return rule_of(code, level_names(code, level))
+
+
+def first_blind(code, rule, level):
+    """What blind tells of a code whose rule in this level is known."""
+    trail = trail_of(code)
+    for setting in telling_settings(code, rule, level):
+        missed = missed_at(code, trail, rule, level, setting)
+        if missed:
+            return (setting, missed[0])
+    return None
 
 
 def telling_settings(code, rule, level):

@@ -20,6 +20,8 @@ class Trail:
         # comes to be denied
         self.held = [list(clause) for clause in clauses]
         self.watchers = [[] for literal in range(2 * many)]
+        # the indices of the clauses with one literal or none
+        self.short = [index for index, clause in enumerate(self.held) if len(clause) < 2]
         self.steps = []
         self.followed = 0
         self.chosen = []
@@ -28,19 +30,20 @@ class Trail:
         self.reasons = [None] * many
         # the index of a clause that is denied whole
         self.clash = None
-        for index in range(len(self.held)):
-            self.take_in(index)
-        self.follow_on()
+        for index, clause in enumerate(self.held):
+            if len(clause) > 1:
+                self.watch(index)
+        self.draw_from_nothing()
 
-    def take_in(self, index):
-        """Has a clause looked at from now on; nothing was followed yet."""
-        clause = self.held[index]
-        if len(clause) > 1:
-            self.watch(index)
-        elif not clause or self.sides[clause[0]] == DENIED:
-            self.clash = index
-        elif self.sides[clause[0]] == UNSET:
-            self.set_so(clause[0], index)
+    def draw_from_nothing(self):
+        """Fills layer 0; nothing is so yet."""
+        for index in self.short:
+            clause = self.held[index]
+            if not clause or self.sides[clause[0]] == DENIED:
+                self.clash = index
+            elif self.sides[clause[0]] == UNSET:
+                self.set_so(clause[0], index)
+        self.follow_on()
 
     def watch(self, index):
         """Has a clause looked at when one of its two first literals comes to be denied."""

@@ -9,6 +9,8 @@ from lastopen.rules import Rule
 
 SIX = ["a", "b", "c", "d", "e", "f"]
 SEVEN = [*SIX, "g"]
+LEVELS = ("dead", "forced", "all")
+MANY = ["h" + x + y for x in "abcdefgh" for y in "abcdefgh"]
 
 
 def anything():
@@ -91,6 +93,15 @@ def some_code(rnd, most_signs=4, most_helpers=4, most_clauses=12):
     signs = names[:rnd.randint(0, most_signs)]
     helpers = names[len(signs):len(signs) + rnd.randint(0, most_helpers)]
     return Code(signs, some_clauses(rnd, signs + helpers, most_clauses), helpers)
+
+
+def small_codes(number, many):
+    """Random codes of few names."""
+    rnd = seeded(number)
+    for _ in range(many):
+        names = shuffled(rnd, SIX)[:rnd.choice([0, 1, 2, 3, 3, 4, 4, 4, 5])]
+        cut = rnd.randint(0, len(names))
+        yield Code(names[:cut], some_clauses(rnd, names, 9), names[cut:])
 
 
 def some_partial(rnd, names):

@@ -3,9 +3,12 @@
 import inspect
 import unittest
 
-from lastopen import following, seeing, ways
+from lastopen import following, mending, orders, papers, seeing, ways
 from lastopen.codes import Code
 from lastopen.following import follow
+from lastopen.mending import fewest, grown, least_code
+from lastopen.orders import needless, outdone
+from lastopen.papers import is_paper, paper
 from lastopen.rules import Rule
 from lastopen.seeing import blind, blind_count, sees
 from lastopen.ways import direct, rows, whole
@@ -25,6 +28,23 @@ class Example(unittest.TestCase):
         self.assertEqual(code.rule().settings(), [("a", "b")])
         self.assertEqual([follow(code, []), follow(code, ["a"]), follow(code, ["-b"])], [[], ["b"], None])
         self.assertEqual([blind(code), sees(code, "dead"), blind_count(code)], [((), "a"), True, 2])
+
+    def test_mending(self):
+        code = Code(["a", "b"], [["a", "h"], ["a", "-h"], ["-a", "b"]], helpers=["h"])
+        self.assertEqual([fewest(code), grown(code).clauses()[3:], least_code(code.rule()).clauses()],
+                         [[("a",)], [("a",)], [("a",), ("b",)]])
+
+    def test_papers(self):
+        even = Rule(["a", "b"], [["a", "b"], ["-a", "-b"]])
+        shown, steps = paper(whole(even))
+        self.assertEqual([shown, len(steps), is_paper(whole(even), (shown, steps)), is_paper(whole(even), (shown, []))],
+                         [[("a", "b"), ("-a", "-b")], 4, True, False])
+
+    def test_orders(self):
+        code = Code(["a", "b"], [["a", "h"], ["a", "-h"], ["-a", "b"]], helpers=["h"])
+        one = direct(Rule(["a"], [["a"]]) | Rule(["b"], [["b"]]))
+        self.assertEqual([one.clauses(), outdone(code, one), outdone(one, code), needless(one.more([["a"]]))],
+                         [[("a", "b")], None, (("a",), "b"), [0]])
 
     def test_ways(self):
         even = Rule(["a", "b"], [["a", "b"], ["-a", "-b"]])
@@ -52,6 +72,10 @@ class Interface(unittest.TestCase):
                                          "are_drawings": ["code", "setting", "thing"]})
         level = "level='forced'"
         self.check_functions(seeing, {"blind": ["code", level], "sees": ["code", level], "blind_count": ["code", level]})
+        self.check_functions(papers, {"paper": ["code", level], "is_paper": ["code", "thing", level]})
+        self.check_functions(orders, {"outdone": ["one", "other"], "needless": ["code"], "trimmed": ["code"]})
+        self.check_functions(mending, {"fewest": ["code", level], "needed": ["rule"], "least_code": ["rule"],
+                                       "grown": ["code"]})
 
     def test_rule(self):
         self.assertEqual(Rule.__module__, "lastopen.rules")

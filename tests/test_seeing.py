@@ -8,21 +8,10 @@ from lastopen.following import follow
 from lastopen.rules import Rule
 from lastopen.seeing import blind, blind_count, sees
 from lastopen.ways import direct, rows, whole
-from tests.helping import (SEVEN, SIX, all_full, anything, opposite, plain_blinds, seeded, shuffled, some_clauses,
-                           some_rule)
+from tests.helping import (LEVELS, MANY, SEVEN, SIX, all_full, anything, opposite, plain_blinds, seeded, shuffled,
+                           small_codes, some_clauses, some_rule)
 
-LEVELS = ("dead", "forced", "all")
 CODE = Code(["a", "b"], [["a", "h"], ["a", "-h"], ["-a", "b"]], ["h"])
-MANY = ["h" + x + y for x in "abcdefgh" for y in "abcdefgh"]
-
-
-def some_codes(number, many):
-    """Random codes of few names."""
-    rnd = seeded(number)
-    for _ in range(many):
-        names = shuffled(rnd, SIX)[:rnd.choice([0, 1, 2, 3, 3, 4, 4, 4, 5])]
-        cut = rnd.randint(0, len(names))
-        yield Code(names[:cut], some_clauses(rnd, names, 9), names[cut:])
 
 
 def some_rules(number, many):
@@ -45,7 +34,7 @@ class Seeing(unittest.TestCase):
 
     def test_by_the_plain_way(self):
         met = {level: [0, 0, 0] for level in LEVELS}
-        for code in some_codes(1, 400):
+        for code in small_codes(1, 400):
             for level in LEVELS:
                 found = self.check(code, level)
                 met[level][0 if found is None else 1 if found[1] is None else 2] += 1
@@ -70,7 +59,7 @@ class Seeing(unittest.TestCase):
         self.assertEqual([blind(CODE), sees(CODE, "dead"), blind_count(CODE)], [((), "a"), True, 2])
 
     def test_default_level(self):
-        for code in some_codes(4, 30):
+        for code in small_codes(4, 30):
             self.assertEqual((blind(code), sees(code), blind_count(code)),
                              (blind(code, "forced"), sees(code, "forced"), blind_count(code, "forced")))
 
@@ -194,7 +183,7 @@ class Facts(unittest.TestCase):
     """[14] FACTS"""
 
     def test_shortest_consequences_decide(self):
-        for code in some_codes(6, 150):
+        for code in small_codes(6, 150):
             rule = code.rule()
             draws = dead = True
             for clause in rule.shortest():
@@ -207,7 +196,7 @@ class Facts(unittest.TestCase):
             self.assertEqual((sees(code), sees(code, "dead")), (draws, dead))
 
     def test_first_blind_setting(self):
-        for code in some_codes(7, 150):
+        for code in small_codes(7, 150):
             for level in LEVELS:
                 found = blind(code, level)
                 if found is not None:
@@ -217,7 +206,7 @@ class Facts(unittest.TestCase):
                     self.assertIn(sorted(clause), [sorted(row) for row in rule.shortest()])
 
     def test_levels_hold_each_other(self):
-        for code in some_codes(8, 150):
+        for code in small_codes(8, 150):
             self.assertTrue(sees(code, "forced") or not sees(code, "all"))
             self.assertTrue(sees(code, "dead") or not sees(code, "forced"))
             names = code.signs() + code.helpers()
