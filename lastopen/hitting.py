@@ -1,7 +1,6 @@
-"""Hitting: few numbers, so that of each group of numbers at least one is among them.
+"""Hitting: few numbers, so that of each group of numbers at least one is among them."""
 
-A group is an integer whose bit k is set if the number k belongs to it.
-"""
+from lastopen.groups import group_of, numbers_of
 
 
 def first_fewest(groups):
@@ -26,24 +25,18 @@ def least_groups(groups):
 
 def by_size(groups):
     """The groups, those with fewer numbers ahead."""
-    lists = [numbers_in(group) for group in groups]
-    return [union([1 << number for number in numbers]) for numbers in sorted(lists, key=len)]
-
-
-def numbers_in(group):
-    """The ascending list of the numbers of a group."""
-    return [number for number in range(group.bit_length()) if group >> number & 1]
+    lists = [numbers_of(group) for group in groups]
+    return [group_of(numbers) for numbers in sorted(lists, key=len)]
 
 
 def apart(groups):
     """The groups in lists, so that groups of unlike lists have no number in common: each can be hit by itself."""
     parts = []
     for group in groups:
-        reach = group
         joined = [group]
         rest = []
         for part in parts:
-            if union(part) & reach:
+            if union(part) & group:
                 joined = [*part, *joined]
             else:
                 rest.append(part)
@@ -67,7 +60,7 @@ def first_of_part(groups):
     while not can_hit(groups, allowed, many):
         many += 1
     found = []
-    for number in numbers_in(allowed):
+    for number in numbers_of(allowed):
         if not groups:
             break
         left = [group for group in groups if not group >> number & 1]
@@ -86,7 +79,7 @@ def can_hit(groups, allowed, many):
         return True
     if 0 in groups or many_apart(groups) > many:
         return False
-    for number in min([numbers_in(group) for group in groups], key=len):
+    for number in min([numbers_of(group) for group in groups], key=len):
         if can_hit([group for group in groups if not group >> number & 1], allowed, many - 1):
             return True
         allowed = allowed & ~(1 << number)

@@ -3,6 +3,7 @@
 from lastopen.codes import Code
 from lastopen.errors import BadLevel
 from lastopen.following import places_in, trail_of
+from lastopen.groups import group_of
 from lastopen.hitting import first_fewest
 from lastopen.literals import half_filled, opposite
 from lastopen.orders import needless
@@ -42,11 +43,7 @@ def fewest_for(code, rule, level):
     groups = {}
     for setting in ends_of(code):
         if is_missed(rule, level, setting):
-            group = 0
-            for index, clause in enumerate(clauses):
-                if goes_on(clause, setting):
-                    group = group | 1 << index
-            groups[group] = True
+            groups[group_of([index for index, clause in enumerate(clauses) if goes_on(clause, setting)])] = True
     return [clauses[index] for index in first_fewest(list(groups))]
 
 

@@ -84,7 +84,7 @@ class Trail:
         """Draws what single clauses draw, up to a clause that is denied whole."""
         while self.clash is None and self.followed < len(self.steps):
             self.look_again(self.steps[self.followed] ^ 1)
-            self.followed += 1
+            self.followed = self.followed + 1
 
     def look_again(self, denied):
         """Looks at the clauses that watch a denied literal."""
@@ -110,7 +110,7 @@ class Trail:
         clause = self.held[index]
         at = 2
         while at < len(clause) and self.sides[clause[at]] == DENIED:
-            at += 1
+            at = at + 1
         if at >= len(clause):
             return False
         clause[1], clause[at] = clause[at], clause[1]

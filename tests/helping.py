@@ -5,7 +5,9 @@ import random
 
 from lastopen.codes import Code
 from lastopen.errors import BadNames
+from lastopen.leading import Led
 from lastopen.rules import Rule
+from lastopen.webs import Web
 
 SIX = ["a", "b", "c", "d", "e", "f"]
 SEVEN = [*SIX, "g"]
@@ -19,7 +21,8 @@ def anything():
     nested.append(nested)
     return [0, 1, -1, 10 ** 5000, True, False, None, "", "-", "A", "a b", "a1", "--x", " x", "x\n", "\u00e4", "\u00df",
             "abcdefghi", "-abcdefghi", [0], [None], [[]], [["a"]], (1,), ((),), nested, {}, {"a": 1}, {1: "a"},
-            Rule(["a"], [["a"]]), Rule([], []), Code(["a"], [["a"]]), Code([], []), BadNames(0), Rule, len]
+            Rule(["a"], [["a"]]), Rule([], []), Code(["a"], [["a"]]), Code([], []), Web([Code(["a"], [["a"]])]),
+            Led(Code(["a"], [])), BadNames(0), Rule, len]
 
 
 def no_lists():
