@@ -3,7 +3,7 @@
 from lastopen.codes import numbered
 from lastopen.errors import Blind
 from lastopen.following import are_drawings, drawings_on, literals_at, places_in, trail_of
-from lastopen.literals import full_settings, in_order, is_clause, is_full, is_list, opposite, places_of
+from lastopen.literals import in_order, is_clause, is_full, is_list, opposite, places_of
 from lastopen.rules import Rule
 from lastopen.search import Search
 from lastopen.seeing import first_blind, level_names, level_rule
@@ -63,16 +63,15 @@ def is_paper(code, thing, level="forced"):
     if not is_list(thing) or len(thing) != 2 or not is_list(thing[0]) or not is_list(thing[1]):
         return False
     places = places_of(names)
-    # the settings are looked at first: steps are right or wrong by themselves
     if not all([fits_all(code, item) for item in thing[0]]):
         return False
     shown = [in_order(places, [literal for literal in item if literal in places]) for item in thing[0]]
     if len(set(shown)) != len(shown) or not all([is_step(code, places, item) for item in thing[1]]):
         return False
     told = {(in_order(places, item[0]), item[1]): True for item in thing[1]}
-    return leaves_none_open(names, shown, [clause for clause, literal in told]) and all([
-        (clause, literal) in told
-        for clause in Rule(names, shown).shortest() for literal in told_literals(clause, level)])
+    # a full setting that is not shown denies one of these clauses whole, so that need not be looked at
+    return all([(clause, literal) in told
+                for clause in Rule(names, shown).shortest() for literal in told_literals(clause, level)])
 
 
 def fits_all(code, thing):
@@ -95,17 +94,3 @@ def is_step(code, places, thing):
     if not are_drawings(code, denied_beside(clause, literal), pairs) or not pairs:
         return False
     return pairs[-1][1] is None or pairs[-1][1] == literal
-
-
-def leaves_none_open(names, shown, clauses):
-    """Tells whether each full setting is shown or denies a clause whole."""
-    known = {row: True for row in shown}
-    for row in full_settings(names):
-        if row not in known and not any([denies(row, clause) for clause in clauses]):
-            return False
-    return True
-
-
-def denies(row, clause):
-    """Tells whether a full setting has no literal of a clause."""
-    return not any([literal in row for literal in clause])

@@ -12,7 +12,7 @@ from tests.helping import (MANY, SEVEN, SIX, all_partial, opposite, plain_closur
                            some_clauses, some_rule)
 
 CODE = Code(["a", "b"], [["a", "h"], ["a", "-h"], ["-a", "b"]], ["h"])
-LONG = [x + y + z for x in "abcdefghijklmnopqrstuvwxyz" for y in "abcdefghij" for z in "abcdefghij"]
+LONG = [x + y + z for x in "abcdefghijklmnopqrstuvwxyz" for y in "abcdefgh" for z in "abcde"]
 
 
 def plain_outdone(one, other):
@@ -222,7 +222,7 @@ class Needless(unittest.TestCase):
 
     def test_any_size(self):
         links = [["-" + one, other] for one, other in zip(LONG, LONG[1:])]
-        shortcuts = [["-" + LONG[at], LONG[at + 7]] for at in range(0, 2000, 100)]
+        shortcuts = [["-" + LONG[at], LONG[at + 7]] for at in range(0, 1000, 50)]
         code = Code(LONG[:8], shortcuts + links, LONG[8:])
         self.assertEqual(needless(code), list(range(len(shortcuts))))
         self.assertEqual(len(trimmed(code)), len(links))
@@ -246,20 +246,27 @@ class Needless(unittest.TestCase):
 class AskedOfMany(unittest.TestCase):
     """Leaving out one clause after another leads to the same as a fresh code without it."""
 
+    def is_found(self, clauses, clause):
+        settings = [[opposite(other) for other in clause if other != literal] for literal in clause]
+        found = [plain_closure(clauses, setting) for setting in settings]
+        return all(so is None or literal in so for so, literal in zip(found, clause))
+
     def test_codes_that_draw_much_from_nothing(self):
         rnd = seeded(6)
-        for _ in range(300):
+        for _ in range(1000):
             names = shuffled(rnd, SEVEN)[:rnd.randint(1, 6)]
-            clauses = some_clauses(rnd, names, 12)
+            clauses = some_clauses(rnd, names, 24)
             clauses += [[rnd.choice(["", "-"]) + rnd.choice(names)] for _ in range(rnd.randint(0, 3))]
             code = Code(names, shuffled(rnd, clauses))
-            expected = []
-            for index, clause in enumerate(code.clauses()):
-                rest = code.less(index)
-                settings = [[opposite(other) for other in clause if other != literal] for literal in clause]
-                found = [plain_closure(rest.clauses(), setting) for setting in settings]
-                expected += [index] * all(so is None or literal in so for so, literal in zip(found, clause))
+            expected = [index for index, clause in enumerate(code.clauses())
+                        if self.is_found(code.less(index).clauses(), clause)]
             self.assertEqual(needless(code), expected)
+            kept = code.clauses()
+            for clause in code.clauses():
+                rest = [other for other in kept if other != clause]
+                if self.is_found(rest, clause):
+                    kept = rest
+            self.assertEqual(trimmed(code).clauses(), kept)
 
 
 if __name__ == "__main__":
